@@ -9,10 +9,14 @@ import (
 	"slices"
 	"strings"
 	"testing"
+
+	"pleach/seq"
 )
 
 // What stands here is a tree in the chapter's words, made by other means than
 // the program's: each node knows what an item tells of it.
+
+type pair = seq.Pair[string, string]
 
 // tree: a node of a model's tree with all below it. If there are bytes, they
 // stand where the node must stand, whatever its item tells.

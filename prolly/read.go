@@ -5,43 +5,30 @@ import (
 	"strings"
 
 	"pleach/api"
+	"pleach/node"
 	"pleach/seq"
 )
 
-// getNode answers the node of that fingerprint, if it is found and right.
-func getNode(s Source, print string) (node, bool) {
-	if s == nil {
-		return node{}, false
-	}
-	text, found := s.Get(print)
-	if !found {
-		return node{}, false
-	}
-	return readNode(text)
-}
-
-// getBelow answers the node below an item of a node of that level, if it is
-// found, right, and as it must stand there.
-func getBelow(s Source, level int, item pair) (node, bool) {
-	print, _, _ := told(item)
-	n, right := getNode(s, print)
-	return n, right && n.standsBelow(level, item)
+// Parse answers level and items of a right node's bytes.
+func Parse(text string) (int, []seq.Pair[string, string], bool) {
+	n, right := node.Read(text)
+	return n.Level, n.Items, right
 }
 
 // Find answers the value at a key, and whether there is one.
 func Find(s Source, root, key string) (string, bool, api.Errno) {
-	n, right := getNode(s, root)
-	for right && n.level > 0 {
-		items := n.from(key)
+	n, right := node.Get(s, root)
+	for right && n.Level > 0 {
+		items := n.From(key)
 		if len(items) == 0 {
 			return "", false, api.OK
 		}
-		n, right = getBelow(s, n.level, items[0])
+		n, right = node.Below(s, n.Level, items[0])
 	}
 	if !right {
 		return "", false, api.ErrLost
 	}
-	if items := n.from(key); len(items) > 0 && items[0].Key == key {
+	if items := n.From(key); len(items) > 0 && items[0].Key == key {
 		return items[0].Val, true, api.OK
 	}
 	return "", false, api.OK
@@ -49,11 +36,11 @@ func Find(s Source, root, key string) (string, bool, api.Errno) {
 
 // Count answers how many pairs the map has, as its root's node alone tells.
 func Count(s Source, root string) (int, api.Errno) {
-	n, right := getNode(s, root)
+	n, right := node.Get(s, root)
 	if !right {
 		return 0, api.ErrLost
 	}
-	return n.count(), api.OK
+	return n.Count(), api.OK
 }
 
 // All answers a run through all pairs, up to the first node that isn't found,
@@ -71,10 +58,10 @@ func Range(s Source, root, from, to string) iter.Seq2[string, string] {
 }
 
 // pairsOf answers a run through the pairs of nodes of level 0.
-func pairsOf(leaves iter.Seq[node]) iter.Seq2[string, string] {
+func pairsOf(leaves iter.Seq[node.Node]) iter.Seq2[string, string] {
 	return func(yield func(string, string) bool) {
 		for leaf := range leaves {
-			for _, p := range leaf.items {
+			for _, p := range leaf.Items {
 				if !yield(p.Key, p.Val) {
 					return
 				}
@@ -85,9 +72,9 @@ func pairsOf(leaves iter.Seq[node]) iter.Seq2[string, string] {
 
 // leaves answers a run through the nodes of level 0 whose last keys are not
 // below from; a root of level 0 is told in any case.
-func leaves(s Source, root, from string) iter.Seq[node] {
-	return func(yield func(node) bool) {
-		if n, right := getNode(s, root); right {
+func leaves(s Source, root, from string) iter.Seq[node.Node] {
+	return func(yield func(node.Node) bool) {
+		if n, right := node.Get(s, root); right {
 			walk(s, n, from, yield)
 		}
 	}
@@ -95,12 +82,12 @@ func leaves(s Source, root, from string) iter.Seq[node] {
 
 // walk tells those of these nodes that are below n, or n itself, and answers
 // whether the run goes on behind n.
-func walk(s Source, n node, from string, yield func(node) bool) bool {
-	if n.level == 0 {
+func walk(s Source, n node.Node, from string, yield func(node.Node) bool) bool {
+	if n.Level == 0 {
 		return yield(n)
 	}
-	for _, item := range n.from(from) {
-		below, right := getBelow(s, n.level, item)
+	for _, item := range n.From(from) {
+		below, right := node.Below(s, n.Level, item)
 		if !right || !walk(s, below, from, yield) {
 			return false
 		}
@@ -111,7 +98,7 @@ func walk(s Source, n node, from string, yield func(node) bool) bool {
 // Nodes answers the fingerprints of all nodes: each once, ahead of those below
 // it, these from the left.
 func Nodes(s Source, root string) ([]string, api.Errno) {
-	n, right := getNode(s, root)
+	n, right := node.Get(s, root)
 	if !right {
 		return nil, api.ErrLost
 	}
@@ -131,22 +118,22 @@ type census struct {
 
 // take takes a node that isn't known and all below it, and answers whether
 // each of these is found, right, and as it must stand.
-func (c *census) take(n node, print string) bool {
+func (c *census) take(n node.Node, print string) bool {
 	// A copy: a fingerprint that is a piece of a node would keep all of it.
 	print = strings.Clone(print)
 	c.known[print] = struct{}{}
 	c.prints = append(c.prints, print)
-	if n.level == 0 {
+	if n.Level == 0 {
 		return true
 	}
-	for _, item := range n.items {
-		below, right := getBelow(c.source, n.level, item)
+	for _, item := range n.Items {
+		below, right := node.Below(c.source, n.Level, item)
 		if !right {
 			return false
 		}
 		// In a tree that Build didn't make a node may stand at many places: to
 		// go on below it each time might take for ever.
-		child, _, _ := told(item)
+		child, _, _ := node.Told(item)
 		if _, known := c.known[child]; !known && !c.take(below, child) {
 			return false
 		}
