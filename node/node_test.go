@@ -239,3 +239,71 @@ func TestMayMap(t *testing.T) {
 		}
 	}
 }
+
+// P9.1, P10.1: a tree that is read: the rows of items of its nodes, its nodes,
+// and which of them it has; all nodes above level 0 are asked for, each once.
+func TestTree(t *testing.T) {
+	random := rand.New(rand.NewPCG(8, 4))
+	for _, n := range []int{0, 1, 2, 20, 400} {
+		s := shelf{sha(Empty): Empty}
+		row, root := rowOf(random, 0, n), sha(Empty)
+		var rows [][]Pair
+		var nodes [][]string
+		for level := 0; len(row) > 0; level++ {
+			texts, above, _ := Row(level, row, false)
+			for _, text := range texts {
+				s[sha(text)] = text
+			}
+			rows, nodes = append(rows, above), append(nodes, texts)
+			row, root = above, sha(texts[0])
+			if len(texts) == 1 {
+				break
+			}
+		}
+		checkTree(t, fmt.Sprint(n, " pairs"), s, root, rows, nodes)
+	}
+	if _, found := ReadTree(nil, sha(Empty)); found {
+		t.Error("a tree of no source")
+	}
+}
+
+// count is a source that counts how often it is asked for each text.
+type count struct {
+	Source
+	asked map[string]int
+}
+
+func (c count) Get(print string) (string, bool) {
+	c.asked[print]++
+	return c.Source.Get(print)
+}
+
+func checkTree(t *testing.T, what string, s shelf, root string, rows [][]Pair, nodes [][]string) {
+	t.Helper()
+	c := count{s, map[string]int{}}
+	tree, found := ReadTree(c, root)
+	if !found || tree.Root != root || wantNode(tree.Top.Level, tree.Top.Items) != s[root] {
+		t.Fatal(what, found, tree.Top)
+	}
+	for level, row := range rows {
+		if !slices.Equal(tree.Row(level), row) || len(tree.Row(len(rows))) != 0 {
+			t.Error(what, "level", level)
+		}
+		for at, item := range row {
+			text := nodes[level][at]
+			if asked := c.asked[sha(text)]; level > 0 && asked != 1 || level == 0 && asked > 0 && sha(text) != root {
+				t.Error(what, "level", level, "asked", asked)
+			}
+			if n, right := tree.Read(s, level, at); !right || wantNode(n.Level, n.Items) != text {
+				t.Error(what, "level", level, "node", at)
+			}
+			other := Pair{Key: item.Key, Val: told("", sha("x"), 1).Val}
+			if !tree.Has(level, item) || tree.Has(level, other) || tree.Has(level+1, item) != (level+1 < len(rows) && slices.Contains(rows[level+1], item)) {
+				t.Error(what, "level", level, "item", at)
+			}
+		}
+	}
+	if len(rows) == 0 && len(tree.Row(0)) != 0 || tree.Has(len(rows), Pair{}) {
+		t.Error(what, tree.Row(0))
+	}
+}

@@ -28,7 +28,7 @@ func Row(level int, items []Pair, more bool) (texts []string, above, left []Pair
 		}
 		text := nodeText(level, its[begin:end])
 		texts = append(texts, text)
-		above = append(above, Node{Level: level, Items: items[begin:end]}.item(text))
+		above = append(above, Node{Level: level, Items: items[begin:end]}.item(sums.Print(text)))
 		begin = end
 	}
 	return texts, above, items[begin:]
@@ -60,10 +60,11 @@ func appendText(b []byte, text string) []byte {
 	return append(b, text...)
 }
 
-// item answers the item of a node, which has an item at least and these bytes.
-func (n Node) item(text string) Pair {
+// item answers the item of a node, which has an item at least, and this
+// fingerprint.
+func (n Node) item(print string) Pair {
 	val := make([]byte, 0, toldLen)
-	val = append(val, sums.Print(text)...)
+	val = append(val, print...)
 	count := uint64(n.Count())
 	for shift := 56; shift >= 0; shift -= 8 {
 		val = append(val, byte(count>>shift))
